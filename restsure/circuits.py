@@ -18,7 +18,7 @@ def is_tuple_up_to(thing, most):
 
 def is_source(thing, sizes):
     """Whether thing is a source where sizes are the numbers of inputs, registers, gates."""
-    if not is_tuple_of(thing, 2) or not isinstance(thing[0], str):
+    if not is_tuple_of(thing, 2):
         return False
     kind, at = thing
     if kind == "in":

@@ -1,7 +1,7 @@
 """Instants of a program in a state: whether they are sure, what is there, and what comes next."""
 
 from restsure.errors import BadGiven, BadRows, BadState, TooMany
-from restsure.kinds import bit_rows, is_bit, is_bits, is_numbers, is_row, is_tuple_of
+from restsure.kinds import bit_rows, filled, is_bit, is_bits, is_numbers, is_row, is_tuple_of
 from restsure.moments import Moment, Rests, is_all_told, next_steps, told_to_end
 from restsure.plans import MOST_REST_LEVELS, MOST_REST_PARTS
 from restsure.sheets import must_rows, run_rows
@@ -64,7 +64,7 @@ def shown_sure(program, state, given):
 
 def numbered_steps(moment, thing):
     """The list of thing's steps with numbers in the place of keys; None unless it is such a tuple."""
-    if not isinstance(thing, tuple) or len(thing) > len(moment.known):
+    if not isinstance(thing, tuple):
         return None
     told = []
     for step in thing:
@@ -113,19 +113,6 @@ def is_shown_sure(program, state, given, thing):
     return not is_all_told(moment, known) and not next_steps(moment.sheet, known)
 
 
-def with_bits(known, row):
-    """The readings known, with the bits of row in the place of None, one by one."""
-    taken = 0
-    told = []
-    for reading in known:
-        if reading is None:
-            told.append(row[taken])
-            taken += 1
-        else:
-            told.append(reading)
-    return told
-
-
 def agreeing(moment, bits):
     """The readings bits, None for locals that are not run, if they agree; otherwise None.
 
@@ -158,7 +145,7 @@ def ways(program, state, given):
     _, known = told_to_end(moment.sheet, moment.known)
     found = []
     for row in bit_rows(known.count(None)):
-        told = agreeing(moment, with_bits(known, row))
+        told = agreeing(moment, filled(known, row))
         if told is not None:
             found.append(tuple([2 if reading is None else reading for reading in told]))
     pairs = list(enumerate(moment.sheet.keys_told))

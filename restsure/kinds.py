@@ -63,3 +63,16 @@ def bit_rows(many):
     for _ in range(many):
         rows = [row + (bit,) for row in rows for bit in (0, 1)]
     return rows
+
+
+def filled(readings, row):
+    """The list of the readings, with the bits of row in the place of None, one by one."""
+    told = []
+    taken = 0
+    for reading in readings:
+        if reading is None:
+            told.append(row[taken])
+            taken += 1
+        else:
+            told.append(reading)
+    return told

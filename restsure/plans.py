@@ -130,8 +130,6 @@ def rest_plan(thing):
 
 def greater_codes(one, other):
     """The codes that are the greater of one of the ones and one of the others."""
-    if not one or not other:
-        return 0
     least = max(one & -one, other & -other)
     return (one | other) // least * least
 
@@ -171,8 +169,7 @@ def plain_mask(part, kids):
         return freed_codes(kids[0])
     if kind == "hold":
         return kids[0] | 2
-    if kind == "loop":
-        return kids[0] - (kids[0] & 1)
+    # So for a loop, too: where 0 is a code of its body there is no statement at all.
     return kids[0]
 
 

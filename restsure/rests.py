@@ -2,24 +2,11 @@
 
 from restsure.cases import check_bits, gate_now, sure_laps, sure_list
 from restsure.errors import TooMany
-from restsure.kinds import bit_rows, is_bits, is_number, is_tuple_of
+from restsure.kinds import bit_rows, filled, is_bits, is_number, is_tuple_of
 from restsure.lots import is_loop_of, is_lot_of, least_lots, live_gates, table_index
 from restsure.swings import fair_loop, only_raises_itself
 
 MOST_UNSURE = 12
-
-
-def filled(found, row):
-    """The tuple of the bits of the gates, those of row in the place of None, one by one."""
-    bits = []
-    taken = 0
-    for bit in found:
-        if bit is None:
-            bits.append(row[taken])
-            taken += 1
-        else:
-            bits.append(bit)
-    return tuple(bits)
 
 
 def stands(circuit, given, held, unsure, bits):
@@ -36,7 +23,7 @@ def rests(circuit, given, held):
         raise TooMany(MOST_UNSURE)
     told = []
     for row in bit_rows(len(unsure)):
-        bits = filled(found, row)
+        bits = tuple(filled(found, row))
         if stands(circuit, given, held, unsure, bits):
             told.append(bits)
     return told

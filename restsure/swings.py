@@ -14,7 +14,6 @@ class Swing:
 
     def __init__(self, lives, lot):
         self.lives = lives
-        self.lot = lot
         self.chosen = {}
         self.follows = {}
         self.fixed = {}
@@ -36,9 +35,9 @@ class Swing:
         bits[self.chosen[gate]] = bit
         return self.lives[gate].table[table_index(bits)]
 
-    def wish(self, gate, bit):
-        """The bit at its chosen place with which the gate comes to this bit."""
-        return bit if self.reply(gate, bit) == bit else 1 - bit
+    def wish(self, gate):
+        """The bit at its chosen place with which the gate comes to 0."""
+        return 0 if self.reply(gate, 0) == 0 else 1
 
     def branch(self, gate):
         """The chosen branch of the gate."""
@@ -102,7 +101,7 @@ def rings_of_following(follows):
             way.append(gate)
             gate = follows[gate]
         # Only a way that comes to itself, not to an earlier one, has closed a new ring.
-        if way and marks[gate] == start:
+        if marks[gate] == start:
             ring = way[way.index(gate):]
             found.append(list(reversed(ring)))
     return found
@@ -111,7 +110,7 @@ def rings_of_following(follows):
 def begin_ring(swing, ring, bits, at_branch):
     """Give the ring bits with which all of it is settled, but for its first branch, if it turns."""
     bits[ring[0]] = 0
-    at_branch[ring[0]] = swing.wish(ring[0], 0)
+    at_branch[ring[0]] = swing.wish(ring[0])
     for gate in ring[1:]:
         at_branch[gate] = bits[swing.follows[gate]]
         bits[gate] = swing.reply(gate, at_branch[gate])
@@ -127,7 +126,7 @@ def ring_steps(swing, ring, bits, at_branch):
         return round_once + round_once
     # All of it would be settled: it is given one change more at its first gate, and the way
     # back of this change follows two steps behind its way there.
-    bits[ring[0]] = 1 - bits[ring[0]]
+    bits[ring[0]] = 1
     steps = []
     many = len(round_once)
     for offset in range(many):

@@ -110,11 +110,10 @@ def unsettled_now(web):
 def step_watched(web, at, loose, waiting):
     """Step it, and keep both dicts: loose of what is not settled, waiting of what never was.
 
-    What was stepped, or was settled at a moment, waits no more.
+    What was settled at a moment waits no more; what is stepped is settled then.
     """
     before = web.bits[at]
     web.step(at)
-    waiting.pop(at, None)
     if web.bits[at] == before:
         return
     for near in web.near(at):

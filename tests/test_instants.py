@@ -139,6 +139,17 @@ class Reacting(Contract):
         self.assertEqual(outcome(lambda: react(prog, ("loop", chain(79)), ())), ("too many", 80))
         self.assertEqual(plainwords.size(react(prog, ("loop", chain(78)), ())[2], 80, True), 78 + 1 + 79)
         self.assertEqual(react(prog, chain(80), ())[2], chain(80, NOTHING))
+        # So it is where what grows stands within others.
+        for many, around in itertools.product((77, 78), (("trap",), ("local", "s"), ("suspend", "a"), ("seq", NOTHING))):
+            state = around + (("loop", chain(many)),)
+            self.assertTrue(is_rest(state))
+            told = outcome(lambda: react((("a",), (), PAUSE), state, (0,)))
+            deepest = plainwords.remains(state, {"a": 0, (): 0})
+            self.assertEqual(told == ("too many", 80), not is_rest(deepest))
+            self.assertEqual(is_rest(deepest), many == 77 or around[0] == "seq")
+        for state in (("par", ("loop", chain(78)), PAUSE), ("par", PAUSE, ("loop", chain(78))),
+                      ("seq", ("loop", chain(78)), PAUSE), ("trap", ("seq", ("loop", chain(77)), PAUSE))):
+            self.assertEqual(outcome(lambda: react(prog, state, ())), ("too many", 80))
         # Too many statements is told ahead of too many levels.
         both = ("loop", chain(65, broad(1400)))
         self.assertTrue(is_rest(both))

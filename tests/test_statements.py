@@ -85,6 +85,8 @@ class IsStatement(Contract):
             self.assertEqual(is_statement(("loop", body)), good, body)
             self.assertEqual(is_rest(("loop", body)), good, body)
             self.assertEqual(is_rest(("hold", "a", ("trap", ("seq", PAUSE, ("loop", body))))), good, body)
+            self.assertEqual(is_rest(("par", ("loop", body), ("loop", body))), good, body)
+            self.assertEqual(is_rest(("seq", ("loop", body), ("loop", body))), good, body)
             # A hold may pause, but it still may end at once.
             self.assertEqual(is_rest(("loop", ("hold", "a", body))), good, body)
 
