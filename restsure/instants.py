@@ -2,7 +2,7 @@
 
 from restsure.errors import BadGiven, BadRows, BadState, TooMany
 from restsure.kinds import bit_rows, filled, is_bit, is_bits, is_numbers, is_row, is_tuple_of
-from restsure.moments import Moment, Rests, is_all_told, next_steps, told_to_end
+from restsure.moments import Moment, Rests, is_all_told, next_steps, part_sizes, told_to_end
 from restsure.plans import MOST_REST_LEVELS, MOST_REST_PARTS
 from restsure.sheets import must_rows, run_rows
 from restsure.statements import check_program, state_fits
@@ -31,7 +31,7 @@ def react_to(program, state, given):
     _, codes = must_rows(sheet, known)
     if codes[0] == 0:
         return totals, 0, None
-    following, many, levels = Rests(sheet, known, codes).rest(0)
+    following, many, levels = Rests(sheet, part_sizes(sheet), known, codes).rest(0)
     if many > MOST_REST_PARTS:
         raise TooMany(MOST_REST_PARTS)
     if levels > MOST_REST_LEVELS:

@@ -76,14 +76,14 @@ def part_sizes(sheet):
 class Rests:
     """The rests of statements that pause, with how many statements and levels they have.
 
-    Each is a triple (statement, how many, levels).
+    Each is a triple (statement, how many, levels); sizes are those of the statements of the sheet.
     """
 
-    def __init__(self, sheet, known, codes):
+    def __init__(self, sheet, sizes, known, codes):
         self.sheet = sheet
+        self.sizes = sizes
         self.known = known
         self.codes = codes
-        self.sizes = part_sizes(sheet)
 
     def as_it_is(self, at):
         """A statement of the sheet itself."""

@@ -11,7 +11,8 @@ FOLDER = pathlib.Path(__file__).resolve().parent.parent / "restsure"
 
 # All modules in an order in which each imports only from those ahead of it.
 ORDER = ["errors", "kinds", "knots", "circuits", "cases", "readings", "webs", "delays", "laps", "lots", "swings",
-         "rests", "plans", "statements", "sheets", "knowing", "moments", "instants"]
+         "rests", "plans", "statements", "sheets", "knowing", "moments", "instants", "derived", "makers", "wiring",
+         "sights", "reached", "sureness", "machines", "alike", "watching", "games", "steering", "written", "unringed"]
 
 CASE = "circuit given held"
 INTERFACE = {
@@ -31,6 +32,19 @@ INTERFACE = {
     "instants": {"react": "program state given", "known_at": "program state given", "shown_sure": "program state given",
                  "is_shown_sure": "program state given thing", "ways": "program state given",
                  "run_program": "program rows"},
+    "derived": {"halt": "", "sustain": "s", "waiting": "s", "at_once": "s", "weakly": "s p", "strongly": "s p",
+                "each": "s p", "every": "s p"},
+    "wiring": {"circuit_of": "program"},
+    "reached": {"reached": "program", "row_to": "program number"},
+    "sureness": {"sure_paper": "program", "is_sure_paper": "program thing"},
+    "machines": {"is_machine": "thing", "machine_of": "program", "run_machine": "machine row",
+                 "parted": "machine one other", "least": "machine"},
+    "alike": {"alike": "one other", "is_alike_paper": "one other thing"},
+    "watching": {"never": "program signal", "comes": "program signal", "is_coming": "program signal thing"},
+    "steering": {"steering": "program own word signal", "is_steering": "program own word signal thing",
+                 "steered": "program own word signal"},
+    "written": {"program_of": "machine inputs outputs"},
+    "unringed": {"rings_of": "circuit", "unringed": "circuit"},
 }
 
 BUILTINS = set("""len range enumerate zip min max sum abs sorted reversed int str bool list tuple dict set isinstance ord
@@ -203,7 +217,7 @@ class PlainPython(unittest.TestCase):
                     self.assertIsInstance(node.func, ast.Attribute)
                     self.assertIn(node.func.attr, made | METHODS | {"__init__"}, path.name)
                 for keyword in node.keywords:
-                    self.assertIn(keyword.arg, ("start",), path.name)
+                    self.assertIn(keyword.arg, ("start", "default"), path.name)
 
     def test_what_is_iterated_at_once(self):
         # range, zip and their kind are neither kept nor passed on.
