@@ -96,12 +96,11 @@ def row_back(met, pair):
     return tuple(reversed(row))
 
 
-def tale_of(program, tales, state):
-    """The tale of state, any value; None if it is no state. tales keeps those told so far."""
-    text = repr(state)
+def is_told(program, tales, state, text):
+    """Whether state, any value, is a state; tales gets its tale then, by this text of it."""
     if text not in tales:
         tales[text] = Tale(program, state) if state_fits(program, state) else None
-    return tales[text]
+    return tales[text] is not None
 
 
 def are_alike_by(one, other, pairs):
@@ -111,9 +110,10 @@ def are_alike_by(one, other, pairs):
     tales = ({}, {})
     met = {}
     for left, right in pairs:
-        if tale_of(one, tales[0], left) is None or tale_of(other, tales[1], right) is None:
+        texts = (repr(left), repr(right))
+        if not is_told(one, tales[0], left, texts[0]) or not is_told(other, tales[1], right, texts[1]):
             return False
-        met[(repr(left), repr(right))] = True
+        met[texts] = True
     if (repr(one[2]), repr(other[2])) not in met:
         return False
     return all(goes_on(tales[0][left], tales[1][right], met) for left, right in met)

@@ -16,7 +16,6 @@ class Reach:
     """
 
     def __init__(self, program):
-        self.program = program
         self.rows = bit_rows(len(program[0]))
         self.states = [program[2]]
         # A statement may be deeper than a key may be: its text stands for it.

@@ -16,13 +16,15 @@ from restsure.sheets import Sheet, asked_kid, own_emit, run_rows
 class Sight:
     """The rows of the statements of a state, as far as they matter, by a part of what is known.
 
-    ones, zeros: the signals that are known here to be there, not to be there; kept: what
-    Scene.ending tells of this sight, if it was asked, and text: one that is that rest's own.
+    ones, zeros: the signals that are known here to be there, not to be there; fresh: those that
+    were not known yet when the rows were told; kept: what Scene.ending tells of this sight, if it
+    was asked, and text: one that is that rest's own.
     """
 
-    def __init__(self, ones, zeros, rows):
+    def __init__(self, ones, zeros, fresh, rows):
         self.ones = ones
         self.zeros = zeros
+        self.fresh = fresh
         self.rows = rows
         self.beyond = {}
         self.kept = None
@@ -40,9 +42,9 @@ class Sight:
 
 
 def look(sheet, sight, at):
-    """The row of a statement, told anew if it waits for something."""
+    """The row of a statement, told anew if it waited for what is fresh."""
     row = sight.rows[at]
-    if row is None or row[4]:
+    if row is None or row[4] & sight.fresh:
         row = seen(sheet, sight, at)
         sight.rows[at] = row
     return row
@@ -62,7 +64,9 @@ def seen(sheet, sight, at):
             return 0, 0, 2, 2, 0
         if reading is not None:
             return look(sheet, sight, asked_kid(sheet, at, reading))
-        rows = [look(sheet, sight, kid) for kid in kids]
+        rows = [look(sheet, sight, kids[0])]
+        if kind == "if":
+            rows.append(look(sheet, sight, kids[1]))
         return waiting_row(1 << sheet.marks[at], kind, rows)
     row = look(sheet, sight, kids[0])
     if kind == "par":
@@ -131,7 +135,7 @@ class Scene:
         self.named = (1 << len(names)) - 1
         self.everything = (1 << len(self.numbers)) - 1
         self.steps = [((key, 0), (key, 1)) for key in self.sheet.keys_told]
-        self.first = Sight(0, 0, [None] * len(self.sheet.parts))
+        self.first = Sight(0, 0, 0, [None] * len(self.sheet.parts))
         look(self.sheet, self.first, 0)
 
     def further(self, sight, ones, zeros):
@@ -141,7 +145,8 @@ class Scene:
         if key == (0, 0):
             return None
         if key not in sight.beyond:
-            more = Sight(sight.ones | key[0], sight.zeros | key[1], list(sight.rows))
+            fresh = key[0] | key[1]
+            more = Sight(sight.ones | key[0], sight.zeros | key[1], fresh, list(sight.rows))
             look(self.sheet, more, 0)
             sight.beyond[key] = more
         return sight.beyond[key]

@@ -17,6 +17,14 @@ def in_row(*parts):
     return told
 
 
+def long_row(*parts):
+    """The statements one behind the other, in few levels."""
+    if len(parts) == 1:
+        return parts[0]
+    half = len(parts) // 2
+    return ("seq", long_row(*parts[:half]), long_row(*parts[half:]))
+
+
 def beside(*parts):
     """The statements side by side."""
     told = parts[-1]

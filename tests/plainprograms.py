@@ -282,3 +282,40 @@ def is_steering(prog, reach, own, word, place, thing):
                 if told(n, m, t) is not None and (told(n, m, t) not in thing[1] or thing[1][told(n, m, t)][0] >= what[0]):
                     return False
     return True
+
+
+def is_alike_paper(one, other, thing):
+    if type(thing) is not tuple or len(thing) != 2:
+        return False
+    if thing[0] == "row":
+        return row(thing[1], len(one[0])) and tell(one, thing[1]) != tell(other, thing[1])
+    if thing[0] != "alike" or type(thing[1]) not in (list, tuple):
+        return False
+    pairs = thing[1]
+    for pair in pairs:
+        if type(pair) is not tuple or len(pair) != 2 or not plainwords.state(one, pair[0]) or not plainwords.state(other, pair[1]):
+            return False
+    if (one[2], other[2]) not in pairs:
+        return False
+    for x, y in pairs:
+        for given in givens(len(one[0])):
+            a, b = plainwords.react(one, x, given), plainwords.react(other, y, given)
+            if (a is None) != (b is None):
+                return False
+            if a is not None and (a[:2] != b[:2] or (a[2], b[2]) not in pairs):
+                return False
+    return True
+
+
+def alike(one, other):
+    """Whether they tell the same along all rows, by all pairs of states that are met."""
+    tables = [reached(one)[1], reached(other)[1]]
+    met, done = [(0, 0)], 0
+    while done < len(met):
+        for a, b in zip(tables[0][met[done][0]], tables[1][met[done][1]]):
+            if (a and a[:2]) != (b and b[:2]):
+                return False
+            if a is not None and (a[2], b[2]) not in met:
+                met.append((a[2], b[2]))
+        done += 1
+    return True
