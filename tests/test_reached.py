@@ -11,7 +11,9 @@ from tests.drawnprograms import clock, in_row
 from tests.drawnwords import HAND, HAND_BODY, NO_WAY, NOTHING, PAUSE, UNSURE, broad, chain
 from tests.values import changed, every_kind
 
-PROGRAMS = drawnprograms.small_inputs(90) + drawnprograms.whirls(40) + [HAND, UNSURE, NO_WAY]
+# One that leads back to its body, so that it reaches one state alone.
+AGAIN = ((), ("o",), ("seq", NOTHING, ("loop", PAUSE)))
+PROGRAMS = drawnprograms.small_inputs(90) + drawnprograms.whirls(40) + [HAND, UNSURE, NO_WAY, AGAIN]
 REACHED = [plainprograms.reached(prog) for prog in PROGRAMS]
 # Sure at first, and unsure behind a.
 LATE = (("a", "b"), ("o",), ("seq", PAUSE, in_row(("if", "a", NOTHING, PAUSE), ("if", "b", UNSURE[2], PAUSE), PAUSE)))
@@ -60,6 +62,7 @@ class Reaching(Contract):
         self.assertEqual(len(states), 2)
         self.assertNotIn(None, states)
         self.assertEqual(table, [(((1,), 1, 1),), (((1,), 1, 1),)])
+        self.assertEqual(reached(AGAIN), ([AGAIN[2]], [(((0,), 1, 0),)]))
 
     def test_rows_lead_there(self):
         for prog, (states, table) in zip(PROGRAMS, REACHED):
@@ -143,6 +146,7 @@ class Reaching(Contract):
         rest = react(FITS, FITS[2], (0,))[2]
         self.assertEqual(plainwords.size(rest, 80, True), 2000)
         self.assertIsNone(most_of(lambda: reached(FITS)))
+        self.assertTrue(is_sure_paper(FITS, sure_paper(FITS)))
         self.assertEqual(plainwords.size(plainwords.remains(TOO_GREAT[2], {}), 80, True), 2001)
         self.assertTrue(is_program(TOO_GREAT))
         for told in (lambda: reached(TOO_GREAT), lambda: row_to(TOO_GREAT, 0), lambda: row_to(TOO_GREAT, "x"),
@@ -254,6 +258,9 @@ class Sure(Contract):
         self.assertTrue(judged([states[0], None] + states[1:], [papers[0], ended] + papers[1:]))
         other = (("a",), ("o",), in_row(PAUSE, ("if", "a", NOTHING, PAUSE), ("emit", "o"), ("loop", PAUSE)))
         self.assertFalse(is_sure_paper(other, (word, states, papers)))
+        self.assertFalse(judged([], []))
+        self.assertFalse(judged(states[:1], papers[:1]))
+        self.assertTrue(is_sure_paper(AGAIN, ("sure", [AGAIN[2]], [(("sure", (("o", 0),)),)])))
 
     def test_states_that_are_too_great_to_go_on(self):
         # Of 80 levels, of 2000 statements: they are states, what comes of them is none.

@@ -57,6 +57,22 @@ class Seen(Contract):
                 scene.rest(scene.last(0))
             self.assertEqual(caught.exception.most, most)
 
+    def test_codes_that_are_not_known(self):
+        # Whether the emit behind can be run hangs on the codes that each side can have.
+        sides = [NOTHING, PAUSE, ("exit", 0), ("exit", 1), ("if", "o", PAUSE, PAUSE), ("if", "o", PAUSE, ("exit", 0)),
+                 ("if", "o", NOTHING, PAUSE), ("if", "o", ("exit", 0), NOTHING), ("hold", "o", NOTHING), ("hold", "o", ("exit", 1)),
+                 ("if", "o", ("exit", 1), ("exit", 1)), ("local", "s", ("if", "s", NOTHING, PAUSE))]
+        for one, other in itertools.product(sides, repeat=2):
+            for inner in (("par", one, other), ("trap", ("par", one, other)), ("seq", one, other), ("trap", ("seq", one, other))):
+                state = ("trap", ("trap", ("seq", ("trap", ("seq", inner, ("emit", "o"))), ("emit", "p"))))
+                scene = Scene(PROGRAM, state)
+                told = plainwords.react(PROGRAM, state, (0, 0))
+                sight = scene.last(0)
+                self.assertEqual(sight.is_sure(), told is not None)
+                if told is not None:
+                    self.assertEqual((scene.totals(sight, 0), scene.rest(sight)), (told[0], told[2]))
+                self.assertTrue(plainwords.is_shown_sure(PROGRAM, state, (0, 0), scene.paper(0)))
+
     def test_what_waits_for_one_another(self):
         # Each local is known only when the one ahead of it is: the last one by the input.
         body = ("if", "a", ("emit", "s"), PAUSE)

@@ -238,6 +238,11 @@ class Steered(Contract):
         # Where the program has ended the machine goes on.
         self.assertEqual(steered(LEAVES, ("a",), "blind", "o"),
                          (1, 3, ((((0, 0, 0, 0), 1), ((1, 0, 1, 0), 1)), (((0, 0, 0, 0), 1), ((1, 0, 1, 0), 1)))))
+        # It may come to its first state again.
+        again = (("a",), ("o",), ("seq", NOTHING, ("loop", ("seq", ("if", "a", ("emit", "o"), NOTHING), PAUSE))))
+        self.assertEqual(steered(again, ("a",), "blind", "o"), (0, 2, ((((0, 0), 0),),)))
+        again = (("a",), ("o",), ("seq", NOTHING, ("loop", PAUSE)))
+        self.assertEqual(steered(again, (), "seeing", "o"), (1, 2, ((((0, 0, 0), 0), ((1, 1, 0), 0)),)))
         # Of two states that could be reached only those that are chosen are there.
         self.assertEqual(len(steered(LEAVES, ("a",), "blind", "o")[2]), 2)
         self.assertEqual(len(plainprograms.reached(LEAVES)[0]), 3)

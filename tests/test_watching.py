@@ -10,7 +10,9 @@ from tests.test_reached import LATE, TOO_GREAT
 from tests.values import changed, every_kind
 
 NAMES = ("program", "signal")
-DRAWN = drawnprograms.small_inputs(150) + drawnprograms.whirls(40) + [HAND]
+# It comes to its first state again.
+AGAIN = (("a",), ("o",), ("seq", NOTHING, ("loop", PAUSE)))
+DRAWN = drawnprograms.small_inputs(150) + drawnprograms.whirls(40) + [HAND, AGAIN]
 ALL = [(prog, plainprograms.reached(prog)) for prog in DRAWN]
 SURE = [(prog, reach, name, place) for prog, reach in ALL if all(None not in row for row in reach[1])
         for place, name in enumerate(prog[0] + prog[1])]
@@ -90,6 +92,8 @@ class Comes(Contract):
         self.assertTrue(is_coming(WITHOUT, "o", ("without", [(0,), (1,)], [(1,), (1,)])))
         self.assertFalse(is_coming(WITHOUT, "o", ("without", ((0,),), ((0,),))))
         self.assertFalse(is_coming(WITHOUT, "o", ("without", (), ((1,),))))
+        self.assertEqual(comes(AGAIN, "o"), ("without", (), ((0,),)))
+        self.assertEqual(never(AGAIN, "o"), ("never", (0,)))
         # An input may be kept away by not giving it, unless it is emitted.
         self.assertEqual(comes((("a",), (), PAUSE), "a")[0], "without")
         self.assertEqual(comes((("a",), (), ("emit", "a")), "a"), ("comes", {0: 0}))

@@ -82,6 +82,11 @@ class Written(Contract):
             except TooMany as error:
                 self.assertEqual(error.most, 200)
 
+    def test_twelve_states_are_written_in_few_statements(self):
+        what = (0, 1, tuple((((int(at == 11),), (at + 1) % 12),) for at in range(12)))
+        prog = self.writes(what, (), ("o",))
+        self.assertLess(plainwords.size(prog[2], 40, False), 120)
+
     def test_machines_that_are_not_plain(self):
         loud = (1, 1, ((((0, 1), 0), ((1, 1), 0)), (((1, 0), 0), ((1, 0), None))))
         self.refuses(NotPlain, program_of, (loud, ("a",), ("o",)))
