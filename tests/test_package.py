@@ -12,7 +12,8 @@ FOLDER = pathlib.Path(__file__).resolve().parent.parent / "restsure"
 # All modules in an order in which each imports only from those ahead of it.
 ORDER = ["errors", "kinds", "knots", "circuits", "cases", "readings", "webs", "delays", "laps", "lots", "swings",
          "rests", "plans", "statements", "sheets", "knowing", "moments", "instants", "derived", "makers", "wiring",
-         "sights", "reached", "sureness", "machines", "alike", "watching", "games", "steering", "written", "unringed"]
+         "sights", "reached", "sureness", "machines", "alike", "watching", "games", "steering", "written", "unringed", "crowds",
+         "lines", "fewest", "straight", "diagrams", "writing"]
 
 CASE = "circuit given held"
 INTERFACE = {
@@ -45,12 +46,20 @@ INTERFACE = {
                  "steered": "program own word signal"},
     "written": {"program_of": "machine inputs outputs"},
     "unringed": {"rings_of": "circuit", "unringed": "circuit"},
+    "lines": {"read_along": "circuit line given held", "line_settles": "circuit line cases", "line_for": "circuit cases",
+              "set_along": "circuit line given held start", "wrong_start": "circuit line cases"},
+    "fewest": {"standing_behind": "circuit line cases", "fewest_line": "circuit cases",
+               "is_fewest": "circuit cases line paper"},
+    "straight": {"is_straight": "thing", "run_straight": "code start rows", "code_of": "program"},
+    "diagrams": {"diagram_of": "circuit order", "is_reduced": "circuit order thing",
+                 "end_at": "circuit order diagram given held", "parted_at": "one other"},
+    "writing": {"rest_text": "rest", "program_text": "program", "circuit_text": "circuit"},
 }
 
 BUILTINS = set("""len range enumerate zip min max sum abs sorted reversed int str bool list tuple dict set isinstance ord
 repr any all divmod super ValueError""".split())
 METHODS = set("append clear copy count endswith extend find get index insert items join keys pop remove replace reverse "
-              "setdefault startswith update values bit_length".split()) | {"add", "discard"}
+              "setdefault startswith update upper values bit_length".split()) | {"add", "discard"}
 BARRED = set("""mro elements open input law version_info with_traceback add_note register attrgetter breakpoint builtins
 compile copyright credits delattr dir eval exec exit gc getattr globals hasattr help id importlib license locals
 methodcaller os quit setattr type vars sys iter next map filter hash round object print format""".split())
