@@ -22,6 +22,7 @@ class Crowd:
         self.bits = (tuple([(0, full) for full in self.fulls]), tuple([(full, 0) for full in self.fulls]))
         self.inputs = []
         self.held = []
+        self.lots = None
 
     def packed(self, readings):
         """What reads like this, case by case."""
@@ -88,21 +89,16 @@ class Crowd:
         In each round of a ring one gate more of each case becomes sure, so a ring of k gates has
         at most k rounds, each with at most k gates.
         """
-        readers = gate_readers(self.circuit)
+        if self.lots is None:
+            self.lots = lots_with_readers(self.circuit)
         gates = self.at_start()
         line = []
-        lots = rings_told(self.circuit)
-        home = [0] * len(gates)
-        for number, (lot, _) in enumerate(lots):
-            for gate in lot:
-                home[gate] = number
-        for number, (lot, _) in enumerate(lots):
+        for lot, readers in self.lots:
             near = lot
             while near:
                 news = [gate for gate in near if self.step(gate, gates)]
                 line.extend(news)
-                reading = [reader for gate in news for reader in readers[gate] if home[reader] == number]
-                near = sorted(set(reading))
+                near = sorted(set([reader for gate in news for reader in readers[gate]]))
         return gates, line
 
     def unsettled(self, gates):
@@ -114,6 +110,22 @@ class Crowd:
                 known = known & (gate[lane][0] | gate[lane][1])
             missing.append(full - known)
         return missing
+
+
+def lots_with_readers(circuit):
+    """The rings and other gates in the order in which they lean on one another.
+
+    Each is a pair of a list of gates, and of the dict from these to those of them that read them.
+    """
+    readers = gate_readers(circuit)
+    told = []
+    home = [0] * len(readers)
+    for number, (lot, _) in enumerate(rings_told(circuit)):
+        for gate in lot:
+            home[gate] = number
+        told.append(lot)
+    return [(lot, {gate: [reader for reader in readers[gate] if home[reader] == number] for gate in lot})
+            for number, lot in enumerate(told)]
 
 
 def lane_reading(table, rows, full):

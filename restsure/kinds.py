@@ -65,6 +65,20 @@ def bit_rows(many):
     return rows
 
 
+def reading_rows(many):
+    """The ascending list of all tuples of so many readings."""
+    rows = [()]
+    for _ in range(many):
+        rows = [row + (reading,) for row in rows for reading in (0, 1, None)]
+    return rows
+
+
+def completions(readings):
+    """The ascending list of the tuples of bits that have a bit in the place of each None."""
+    free = [reading for reading in readings if reading is None]
+    return [tuple(filled(readings, row)) for row in bit_rows(len(free))]
+
+
 def filled(readings, row):
     """The list of the readings, with the bits of row in the place of None, one by one."""
     told = []

@@ -13,7 +13,8 @@ FOLDER = pathlib.Path(__file__).resolve().parent.parent / "restsure"
 ORDER = ["errors", "kinds", "knots", "circuits", "cases", "readings", "webs", "delays", "laps", "lots", "swings",
          "rests", "plans", "statements", "sheets", "knowing", "moments", "instants", "derived", "makers", "wiring",
          "sights", "reached", "sureness", "machines", "alike", "watching", "games", "steering", "written", "unringed", "crowds",
-         "lines", "fewest", "straight", "diagrams", "writing"]
+         "lines", "fewest", "straight", "diagrams", "writing", "reading", "manners", "meetings", "frames", "joined",
+         "faces", "opens", "pieces", "partings", "modules", "workshop"]
 
 CASE = "circuit given held"
 INTERFACE = {
@@ -54,7 +55,17 @@ INTERFACE = {
     "diagrams": {"diagram_of": "circuit order", "is_reduced": "circuit order thing",
                  "end_at": "circuit order diagram given held", "parted_at": "one other"},
     "writing": {"rest_text": "rest", "program_text": "program", "circuit_text": "circuit"},
+    "reading": {"read_rest": "text", "read_program": "text", "read_circuit": "text"},
+    "joined": {"joined_circuit": "frame part", "opened": "part held given", "settled": "part held given",
+               "pairing": "one other", "is_pairing": "one other thing", "parting": "one other"},
+    "pieces": {"is_piece": "thing", "piece_reading": "signals standing run given",
+               "piece_settled": "signals standing given", "pieces_pairing": "one other",
+               "is_pieces_pairing": "one other thing", "is_surroundings": "thing", "put_in": "surroundings body",
+               "classes": "piece"},
+    "partings": {"pieces_parting": "one other"},
 }
+WORKSHOP = {"put": "m inputs outputs body", "drop": "m", "undo": "", "redo": "", "modules": "", "missing": "",
+            "program": "m", "look": "m", "standing": "", "looks": ""}
 
 BUILTINS = set("""len range enumerate zip min max sum abs sorted reversed int str bool list tuple dict set isinstance ord
 repr any all divmod super ValueError""".split())
@@ -107,6 +118,18 @@ class Interface(unittest.TestCase):
             tree = ast.parse((FOLDER / (module + ".py")).read_text(encoding="utf-8"))
             made = [node.name for node in tree.body if isinstance(node, ast.FunctionDef)]
             self.assertLessEqual(set(functions), set(made))
+
+    def test_the_workshop_has_its_methods_itself(self):
+        there = importlib.import_module("restsure.workshop")
+        tree = ast.parse((FOLDER / "workshop.py").read_text(encoding="utf-8"))
+        rows = [node for node in tree.body if isinstance(node, ast.ClassDef) and node.name == "Workshop"]
+        made = [node.name for node in rows[0].body if isinstance(node, ast.FunctionDef)]
+        self.assertLessEqual(set(WORKSHOP), set(made))
+        self.assertEqual(list(inspect.signature(there.Workshop).parameters), [])
+        for name, parameters in WORKSHOP.items():
+            told = inspect.signature(getattr(there.Workshop(), name)).parameters.values()
+            self.assertEqual([row.name for row in told], parameters.split(), name)
+            self.assertTrue(all(row.default is row.empty and row.kind is row.POSITIONAL_OR_KEYWORD for row in told))
 
     def test_the_package_defines_nothing(self):
         self.assertEqual((FOLDER / "__init__.py").read_text(), "")
