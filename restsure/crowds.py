@@ -95,10 +95,14 @@ class Crowd:
         line = []
         for lot, readers in self.lots:
             near = lot
+            forth = True
             while near:
                 news = [gate for gate in near if self.step(gate, gates)]
                 line.extend(news)
-                near = sorted(set([reader for gate in news for reader in readers[gate]]))
+                further = sorted(set([reader for gate in news for reader in readers[gate]]))
+                # To and fro: whichever way a ring goes, one of both rounds goes along it.
+                near = list(reversed(further)) if forth else further
+                forth = not forth
         return gates, line
 
     def unsettled(self, gates):

@@ -10,10 +10,31 @@ from restsure.lines import check_cases, check_line, check_whole, is_line, settle
 MOST_STANDINGS = 3000
 
 
-def spread(crowd, gates):
-    """The standing, case by case, in which the gates read this."""
-    rows = [crowd.unpacked(gate) for gate in gates]
-    return tuple([tuple([row[case] for row in rows]) for case in range(crowd.many)])
+class Spread:
+    """Standings told case by case; what is the same in many of them is made once.
+
+    columns: by what a gate reads, the list of its readings; rows: the readings of all gates.
+    """
+
+    def __init__(self, crowd):
+        self.crowd = crowd
+        self.columns = {}
+        self.rows = {}
+
+    def column(self, told):
+        """The list of the readings, case by case, of a gate that reads this."""
+        if told not in self.columns:
+            self.columns[told] = self.crowd.unpacked(told)
+        return self.columns[told]
+
+    def row(self, readings):
+        """The tuple of these readings, the same one each time."""
+        return self.rows.setdefault(readings, readings)
+
+    def standing(self, gates):
+        """The standing in which the gates read this."""
+        columns = [self.column(gate) for gate in gates]
+        return tuple([self.row(tuple([column[case] for column in columns])) for case in range(self.crowd.many)])
 
 
 def standing_behind(circuit, line, cases):
@@ -23,7 +44,7 @@ def standing_behind(circuit, line, cases):
     crowd = crowd_of(circuit, cases)
     gates = crowd.at_start()
     crowd.go_along(line, gates)
-    return spread(crowd, gates)
+    return Spread(crowd).standing(gates)
 
 
 class Search:
@@ -100,9 +121,10 @@ def fewest_line(circuit, cases):
     search = Search(crowd)
     line = search.line_to(search.numbers[tuple(sure)])
     paper = []
+    spread = Spread(crowd)
     for standing, depth in zip(search.found, search.depths):
         # No step leads more than one deeper, so none brings more than one of what is left.
-        paper.append((spread(crowd, standing), max(0, len(line) - depth)))
+        paper.append((spread.standing(standing), max(0, len(line) - depth)))
     return line, tuple(paper)
 
 

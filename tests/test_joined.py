@@ -18,6 +18,20 @@ HOLDS = (1, ((0, ("gate", 0)), (1, ("reg", 0))), (((("in", 0), ("reg", 1)), AND)
 PARTS = [what for what in drawn.lots_of(500, most_inputs=2) + drawn.lots_of(200, most_gates=6, most_inputs=3, most_registers=2)]
 
 
+def lock(word):
+    """Registers and gates that go on by a word of pairs of bits, and the source that is 1 behind it.
+
+    Register 0 is 1 from the second instant on; register k is 1 if the first k pairs were given.
+    """
+    registers, gates = [(0, ("bit", 1))], []
+    for at, pair in enumerate(word):
+        ahead = ("reg", at)
+        table = tuple(int((a, b) == pair and held != (at == 0)) for b in (0, 1) for a in (0, 1) for held in (0, 1))
+        gates.append(((ahead, ("in", 0), ("in", 1)), table))
+        registers.append((0, ("gate", at)))
+    return tuple(registers), tuple(gates), ("reg", len(word))
+
+
 def by_sizes(parts):
     """The lists of the parts of as many inputs and outputs."""
     lots = {}
@@ -297,6 +311,27 @@ class Pairings(Contract):
         gates = tuple(((("reg", at), ("in", 0)), (AND, (0, 1, 0, 0))[at % 2]) for at in range(5))
         one = (1, registers, gates, (("gate", 4),))
         self.assertEqual(self.tells_apart(one, (1, (), (), (("bit", 0),))), 6)
+
+    def test_words_that_are_wanted_ahead(self):
+        # A part that waits for a word of pairs of bits; only then it tells something that parts it.
+        rng = random.Random(5)
+        words = [word for many in (1, 2) for word in itertools.product(plainly.all_bits(2), repeat=many)]
+        words += [tuple(tuple(rng.randint(0, 1) for _ in range(2)) for _ in range(rng.randint(3, 7))) for _ in range(30)]
+        for word in words:
+            registers, gates, last = lock(word)
+            many = len(word) + 1
+            both = len(gates)
+            # What it tells in the end: a bit; the and of a bit; in or not in; it does not settle.
+            nots = gates + (((("in", 0),), NOT), ((("in", 0), ("gate", both)), OR), ((last, ("gate", both + 1)), AND))
+            ring = gates + (((last, ("gate", both)), AND),)
+            ended = gates + (((("bit", 0), ("bit", 0)), AND),)
+            alike = (2, registers, gates, (last,))
+            for one, other in (((2, registers, gates, (last,)), (2, registers, gates, (("bit", 0),))),
+                               ((2, registers, nots, (("gate", both + 2),)), alike),
+                               ((2, registers, ring, (last,)), (2, registers, ended, (last,)))):
+                self.assertIsNone(pairing(one, other))
+                for row in ((one, other), (other, one)):
+                    self.assertEqual(self.tells_apart(*row), many)
 
     def test_registers_of_frame_and_part(self):
         for more, right in ((0, True), (1, False)):

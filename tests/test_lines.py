@@ -208,6 +208,38 @@ class Settling(Lines):
         ring = tuple(((("gate", (at + 1) % 150), ("in", 0)), AND) for at in range(150))
         self.assertLessEqual(len(line_for((1, (), ring, ()), [((0,), ())])), 20000)
 
+    def ring_entered_everywhere(self, order):
+        """A ring that goes by order, and a case for each of its gates in which it begins there."""
+        pairs = list(itertools.combinations(range(30), 2))[:len(order)]
+        gates = [None] * len(order)
+        for at, gate in enumerate(order):
+            one, other = pairs[gate]
+            # The gate is 0 where both of its registers are 0, otherwise it follows the one ahead.
+            gates[gate] = ((("gate", order[at - 1]), ("reg", one), ("reg", other)), (0, 0, 0, 1, 0, 1, 0, 1))
+        cases = [((), tuple(int(at not in pair) for at in range(30))) for pair in pairs]
+        return (0, tuple((0, ("reg", at)) for at in range(30)), tuple(gates), ()), cases
+
+    def test_lines_that_are_too_long(self):
+        for many, drawn_order in ((60, True), (141, True), (142, False), (400, False), (400, True)):
+            order = list(range(many))
+            if drawn_order:
+                random.Random(many).shuffle(order)
+            for row in (order, order[::-1]):
+                what, cases = self.ring_entered_everywhere(row)
+                self.assertIsNone(unsure_index(what, cases[:2]))
+                try:
+                    line = line_for(what, cases)
+                except TooMany as error:
+                    self.assertEqual((error.most, many * many > 20000), (20000, True))
+                    self.assertTrue(drawn_order)
+                    continue
+                self.assertLessEqual(len(line), min(many * many, 20000))
+                self.assertTrue(line_settles(what, line, cases))
+                # One of both ways round goes along the ring.
+                self.assertTrue(drawn_order or len(line) <= 4 * many)
+        with self.assertRaises(TooMany):
+            line_for(*self.ring_entered_everywhere(random.Random(400).sample(range(400), 400)))
+
     def test_no_gates(self):
         self.assertEqual(line_for(drawn.EMPTY, [((), ())]), ())
         self.assertTrue(line_settles(drawn.EMPTY, (), [((), ())] * 4096))

@@ -81,6 +81,38 @@ class Partings(Contract):
                         self.assertIsNone(pieces_parting(*bodies))
                         self.fail(why)
 
+    def test_several_signals_that_are_unsure(self):
+        # Something is unlike only where both x and y are unsure, and w tells it, or a code.
+        names = ("w", "x", "y")
+
+        def only_unsure(part):
+            inner = ("if", "y", NOTHING, ("if", "y", part, NOTHING))
+            return ("if", "x", NOTHING, ("if", "x", inner, NOTHING))
+        for part in (("emit", "w"), PAUSE, ("exit", 0), ("exit", 1)):
+            for lead in (0, 1, 5):
+                run = [only_unsure(NOTHING), only_unsure(part)]
+                held = [("local", "l", ("seq", ("emit", "l"), ("if", "l", NOTHING, body))) for body in run]
+                for bodies in (run, held):
+                    pair = [(names, ("seq", balanced(lead), body) if lead else body) for body in bodies]
+                    self.assertTrue(all(plainparts.piece(piece) for piece in pair))
+                    for row in (pair, pair[::-1]):
+                        self.assertIsNone(pieces_pairing(*row))
+                        self.assertEqual(self.tells_apart(*row)[0], lead + 1)
+
+    def test_bits_for_which_they_settle(self):
+        # Where x is not there, or is, z stands in a ring by itself: what is unsure must come to be the other one.
+        names = ("x", "y", "z")
+        ring, emit = ("if", "z", ("emit", "z"), NOTHING), ("emit", "y")
+        for settles in (("if", "x", NOTHING, ring), ("if", "x", ring, NOTHING)):
+            for one, other in ((emit, ("if", "x", emit, emit)),
+                               (("if", "x", NOTHING, NOTHING), ("if", "x", NOTHING, ("if", "x", emit, NOTHING)))):
+                for lead in (0, 2):
+                    bodies = [("par", settles, part) for part in (one, other)]
+                    pair = [(names, ("seq", balanced(lead), body) if lead else body) for body in bodies]
+                    for row in (pair, pair[::-1]):
+                        self.assertIsNone(pieces_pairing(*row))
+                        self.assertEqual(self.tells_apart(*row)[0], lead + 1)
+
     def test_names(self):
         # Signals that are named as surroundings of other pieces name theirs.
         for names in (("a",), ("a", "b"), ("a", "b", "c"), ("a", "c"), ("b",), ("d", "e"), ("tell", "zz")):

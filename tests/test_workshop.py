@@ -233,7 +233,8 @@ class Modules(Shop):
         pairs = tuple((name, "a") for name in "abcdefghijklmnopq")
         for body, right in ((("run", "m", pairs[:16]), True), (("run", "m", pairs), False), (("run", "m", ()), True), (("run", "m", []), False),
                             (("run", "M", ()), False), (("run", "m"), False), (("run", "m", (("b", "a"), ("a", "a"))), False),
-                            (("run", "m", (("a", "a"), ("a", "a"))), False), (("run", "m", (["a", "a"],)), False), (("run", "m", (("a", "z"),)), False),
+                            (("run", "m", (("a", "a"), ("a", "a"))), False), (("run", "m", (["a", "a"],)), False), (("run", "m", (("A", "a"),)), False),
+                            (("run", "m", ((1, "a"),)), False), (("run", "m", (("abcdefghi", "a"),)), False), (("run", "m", (("a", "a", "a"),)), False), (("run", "m", (("a", "z"),)), False),
                             (("local", "z", ("run", "m", (("a", "z"),))), True), (("run", "m", (("z", "a"),)), True), (("hole",), False),
                             (("hold", "a", PAUSE), False), (("loop", NOTHING), True), (("loop", ("run", "m", ())), True), (("exit", 20), True)):
             if right:
