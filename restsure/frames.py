@@ -8,13 +8,12 @@ THEN = (0, 1, 0, 0, 0, 1, 1, 1)
 
 
 class Framing:
-    """A frame that is being made, without inputs of its own, for parts of so many inputs and outputs.
+    """A frame that is being made, without inputs of its own, for parts of so many outputs.
 
     row: what is given ahead of the last instant. Register k is 1 from the instant k + 1 on.
     """
 
-    def __init__(self, inputs, outputs, row):
-        self.inputs = inputs
+    def __init__(self, outputs, row):
         self.outputs = outputs
         self.row = row
         self.maker = Maker()

@@ -153,6 +153,6 @@ def parting(one, other):
     many = len(row) + 1
     if many + max(len(one[1]), len(other[1])) > MOST_REGISTERS:
         raise TooMany(MOST_REGISTERS)
-    framing = Framing(one[0], len(one[3]), row)
+    framing = Framing(len(one[3]), row)
     last = framing.last_sources(meeting.one, meeting.other, meeting.pairs[meeting.misfit])
     return framing.circuit(last), many

@@ -371,6 +371,20 @@ class Pairings(Contract):
         self.judges(lambda x: is_pairing(HOLDS, HOLDS, x), lambda x: plainparts.is_pairing(HOLDS, HOLDS, x),
                     every_kind() + list(changed(pairing(HOLDS, HOLDS))))
 
+    def test_four_inputs_and_eight_outputs(self):
+        gates = tuple(((("in", at % 4), ("in", (at + 1) % 4)), AND) for at in range(8))
+        one = (4, (), gates, tuple(("gate", at) for at in range(8)))
+        other = (4, (), gates[:4], tuple(("gate", at % 4) for at in range(8)))
+        self.assertEqual(pairing(one, other), [((), ())])
+        self.assertTrue(is_pairing(one, other, [((), ())]))
+        bent = other[:3] + (other[3][:7] + (("gate", 2),),)
+        self.assertEqual(self.tells_apart(one, bent), 1)
+        self.assertEqual(opened(one, (), (0, 1, 1, None)), (0, 1, None, 0) * 2)
+        frame = (8, (), (), tuple(("in", at) for at in range(4)))
+        self.assertEqual(len(joined_circuit(frame, one)[2]), 12)
+        self.refuses(BadPart, opened, ((4, (), gates, one[3] + one[3][:1]), (), (0, 1, 1, None)))
+        self.refuses(BadPart, opened, ((5, (), gates, one[3]), (), (0, 1, 1, None, 0)))
+
     def test_great_parts(self):
         one = (4, (), drawn.wires(1990), (("gate", 1989), ("in", 3)))
         other = (4, (), drawn.wires(3), (("gate", 2), ("in", 3)))
