@@ -122,14 +122,15 @@ def lots_with_readers(circuit):
     Each is a pair of a list of gates, and of the dict from these to those of them that read them.
     """
     readers = gate_readers(circuit)
-    told = []
-    home = [0] * len(readers)
-    for number, (lot, _) in enumerate(rings_told(circuit)):
-        for gate in lot:
-            home[gate] = number
-        told.append(lot)
-    return [(lot, {gate: [reader for reader in readers[gate] if home[reader] == number] for gate in lot})
-            for number, lot in enumerate(told)]
+    return [(lot, readers_among(lot, readers)) for lot, _ in rings_told(circuit)]
+
+
+def readers_among(lot, readers):
+    """The dict from the gates of a lot to those of them that read them."""
+    told = {gate: [] for gate in lot}
+    for gate in lot:
+        told[gate].extend([reader for reader in readers[gate] if reader in told])
+    return told
 
 
 def lane_reading(table, rows, full):

@@ -227,7 +227,8 @@ class Pairings(Contract):
                     told["parted" if many == 1 else "later"] += 1
                 else:
                     self.assertIsNone(parting(one, other))
-                    self.assertIs(is_pairing(one, other, found), True)
+                    self.assertIs(self.kept(is_pairing, ("one", "other", "thing"), (one, other, found)), True)
+                    self.alike_lists(is_pairing, (one, other, found), 2)
                     told["alike"] += 1
         self.assertGreater(min(told["alike"], told["parted"]), 200)
         self.assertGreater(told["later"], 15)

@@ -324,7 +324,7 @@ class Surroundings(Contract):
                  ("trap", ("trap", ["hole"])), ("trap", ("trap", ("hold", "a", hole))), ("trap", ("trap", ("loop", ("seq", hole, ("hole",)), 1))),
                  ("trap", ("trap", ("loop", ("par", NOTHING, NOTHING)))), ("trap", ("trap", ("if", "a", hole))), ("hole",), (), None]
         for thing in right:
-            self.assertIs(is_surroundings(thing), True)
+            self.assertIs(self.kept(is_surroundings, ("thing",), (thing,)), True)
         for thing in wrong:
             self.assertIs(is_surroundings(thing), False)
             self.refuses(BadSurroundings, put_in, (thing, PAUSE))
