@@ -112,7 +112,8 @@ class Reader:
     def bits(self):
         """Read digits 0 and 1."""
         token = self.token()
-        return tuple([int(sign) for sign in self.next_one(is_digits(token) and all(sign in "01" for sign in token))])
+        self.next_one(is_digits(token) and all(sign in "01" for sign in token))
+        return tuple([int(sign) for sign in token])
 
     def source(self):
         """Read a source."""
